@@ -138,7 +138,11 @@ func TestSizes(t *testing.T) {
 			t.Errorf("%s: Check = %d", name, e)
 		}
 		// Nothing else that is wrong, also before it, comes first.
-		for other, spoil := range notValid() {
+		others := notValid()
+		for other, c := range conditions() {
+			others["a check: "+other] = c.put
+		}
+		for other, spoil := range others {
 			s := spoilt(spoil)
 			change(&s)
 			if e := schema.Check(s); e != api.ErrLimit {
